@@ -13,6 +13,7 @@ import (
 	"cenotaph/item"
 	"cenotaph/know"
 	"cenotaph/matrix"
+	"cenotaph/sample"
 	"cenotaph/span"
 	"cenotaph/vec"
 	"cenotaph/zone"
@@ -23,27 +24,11 @@ const most = 64
 
 var null = math.Copysign(0, -1)
 
-func at(a id.Id, n int) vec.At { return vec.At{Id: a, N: n} }
-
-func row(a id.Id, l ...vec.At) matrix.Row { return matrix.Row{Id: a, Vec: l} }
-
-func knows(a id.Id, upto int, extra ...int) know.Row {
-	return know.Row{Id: a, Span: span.Span{Upto: upto, Extra: extra}}
-}
-
-func version(a id.Id, seq, stamp int) item.Version {
-	return item.Version{Id: a, Seq: seq, Stamp: stamp}
-}
-
-func deadOne(key int, v item.Version) item.Item { return item.Item{Key: key, Ver: v, Dead: true} }
-
-func stubOf(key int, v item.Version, spot complex128) item.Item {
-	return item.Item{Key: key, Ver: v, Spot: spot}
-}
-
-func heldOne(key int, v item.Version, spot complex128, text string) item.Item {
-	return item.Item{Key: key, Ver: v, Spot: spot, Text: text, Held: true}
-}
+// The names by which the tests speak of what package sample has.
+var (
+	at, row, knows, version  = sample.At, sample.Row, sample.Knows, sample.Version
+	deadOne, stubOf, heldOne = sample.Dead, sample.Stub, sample.Held
+)
 
 var first = version("0", 1, 3)
 

@@ -2,43 +2,26 @@ package node_test
 
 import (
 	"math"
-	"slices"
 	"testing"
 
 	"cenotaph/api"
 	"cenotaph/cert"
 	"cenotaph/id"
-	"cenotaph/item"
 	"cenotaph/know"
 	"cenotaph/matrix"
 	"cenotaph/node"
-	"cenotaph/span"
+	"cenotaph/sample"
 	"cenotaph/store"
 	"cenotaph/vec"
 	"cenotaph/zone"
 )
 
-func at(a id.Id, n int) vec.At { return vec.At{Id: a, N: n} }
-
-func row(a id.Id, v ...vec.At) matrix.Row { return matrix.Row{Id: a, Vec: v} }
-
-func knows(a id.Id, upto int, extra ...int) know.Row {
-	return know.Row{Id: a, Span: span.Span{Upto: upto, Extra: extra}}
-}
-
-func version(a id.Id, seq, stamp int) item.Version {
-	return item.Version{Id: a, Seq: seq, Stamp: stamp}
-}
-
-func deadOne(key int, v item.Version) item.Item { return item.Item{Key: key, Ver: v, Dead: true} }
-
-func stubOf(key int, v item.Version, spot complex128) item.Item {
-	return item.Item{Key: key, Ver: v, Spot: spot}
-}
-
-func heldOne(key int, v item.Version, spot complex128, text string) item.Item {
-	return item.Item{Key: key, Ver: v, Spot: spot, Text: text, Held: true}
-}
+// The names by which the tests speak of what package sample has.
+var (
+	at, row, knows, version  = sample.At, sample.Row, sample.Knows, sample.Version
+	deadOne, stubOf, heldOne = sample.Dead, sample.Stub, sample.Held
+	same                     = sample.Same
+)
 
 func zoneOf(t testing.TB, text string) zone.Zone {
 	t.Helper()
@@ -47,13 +30,6 @@ func zoneOf(t testing.TB, text string) zone.Zone {
 		t.Fatalf("%q is no zone", text)
 	}
 	return z
-}
-
-// same holds two States against each other; nil and empty lists are one.
-func same(a, b node.State) bool {
-	return a.Id == b.Id && a.How == b.How && a.Kids == b.Kids && a.Seq == b.Seq && a.Clock == b.Clock &&
-		know.Same(a.Know, b.Know) && vec.Same(a.Gone, b.Gone) && vec.Same(a.Floor, b.Floor) && store.Same(a.Store, b.Store) &&
-		zone.Same(a.Zone, b.Zone) && slices.Equal(a.Members, b.Members) && vec.Same(a.Certs, b.Certs) && matrix.Same(a.Rows, b.Rows)
 }
 
 // rich is a State that has something of each kind: 01, that was named by the root, heard of 02 and 03, and gave 03 up.

@@ -104,6 +104,8 @@ func TestImports(t *testing.T) {
 			switch {
 			case !isOwn && !slices.Contains(library, path):
 				t.Errorf("%s imports %s", name, path)
+			case own == "sample":
+				t.Errorf("%s calls what is for tests alone", name)
 			case isLayer && toLayer && !slices.Contains(strings.Fields(calls), own):
 				t.Errorf("%s calls %s, which its layer doesn't", name, own)
 			}

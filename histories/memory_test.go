@@ -5,6 +5,7 @@ import (
 	"reflect"
 	"slices"
 	"strings"
+	"testing"
 
 	"cenotaph/frame"
 	"cenotaph/node"
@@ -88,18 +89,28 @@ func (w *world) watch(s node.State, f frame.Frame) (node.State, frame.Frame, fun
 		return s, f, func(...any) {}
 	}
 	s, f = roomy(s), roomy(f)
-	all := []reflect.Value{reflect.ValueOf(s), reflect.ValueOf(f)}
+	return s, f, handed(w.t, s, f)
+}
+
+// handed is what is to be asked of a call's answers when it was handed those.
+func handed(t *testing.T, given ...any) func(answers ...any) {
+	all := values(given)
 	kept := told(all)
-	return s, f, func(answers ...any) {
-		w.t.Helper()
+	return func(answers ...any) {
+		t.Helper()
 		if told(all) != kept {
-			w.t.Fatalf("what was handed in is changed: %v, %v", s, f)
+			t.Fatalf("what was handed in is changed: %v", given)
 		}
-		for _, x := range answers {
-			all = append(all, reflect.ValueOf(x))
-		}
-		if shared(all) {
-			w.t.Fatalf("something is shared: %v", answers)
+		if shared(append(all, values(answers)...)) {
+			t.Fatalf("something is shared: %v", answers)
 		}
 	}
+}
+
+func values(l []any) []reflect.Value {
+	var all []reflect.Value
+	for _, x := range l {
+		all = append(all, reflect.ValueOf(x))
+	}
+	return all
 }

@@ -15,6 +15,7 @@ import (
 	"cenotaph/sample"
 	"cenotaph/store"
 	"cenotaph/vec"
+	"cenotaph/zone"
 )
 
 // check holds each replica against what it should know, and have.
@@ -64,6 +65,9 @@ func (w *world) newest(l events) map[int]item.Item {
 func (w *world) checkKeys(i int) {
 	w.t.Helper()
 	s, all := w.all[i], w.newest(w.known[i])
+	for key, x := range all {
+		w.checkRead(s, key, x)
+	}
 	for _, x := range s.Store {
 		want := all[x.Key]
 		if x.Ver != want.Ver || x.Dead != want.Dead || x.Spot != want.Spot || x.Held && x.Text != want.Text {
@@ -75,6 +79,24 @@ func (w *world) checkKeys(i int) {
 		if !x.Dead || !w.gone[x] {
 			w.t.Fatalf("%q lacks %v", s.Id, x)
 		}
+	}
+}
+
+// checkRead: what s reads under that key is what was written last there, x.
+func (w *world) checkRead(s node.State, key int, x item.Item) {
+	w.t.Helper()
+	want := []api.Errno{api.OK, api.ErrPending}
+	switch {
+	case s.How != node.Live:
+		want = []api.Errno{api.ErrState}
+	case x.Dead:
+		want = []api.Errno{api.ErrNone}
+	case !zone.Has(s.Zone, x.Spot):
+		want = []api.Errno{api.ErrHidden}
+	}
+	text, e := node.Read(s, key)
+	if !slices.Contains(want, e) || e == api.OK && text != x.Text || e != api.OK && text != "" {
+		w.t.Fatalf("%q reads %d, %q, not %v", s.Id, e, text, x)
 	}
 }
 
@@ -122,8 +144,14 @@ func (w *world) checkStep(s, got node.State, r gc.Report) {
 			w.t.Fatalf("%q reads under %d %q, %d, not %q, %d", s.Id, key, b, f, a, e)
 		}
 	}
+	w.checkRowsLeftOut(s, got)
+}
+
+// checkRowsLeftOut: whose Rows s had, and got hasn't, were left out by right.
+func (w *world) checkRowsLeftOut(s, got node.State) {
+	w.t.Helper()
 	for _, x := range s.Know {
-		if vec.Of(got.Gone, x.Id) > 0 {
+		if !slices.ContainsFunc(got.Know, func(y know.Row) bool { return y.Id == x.Id }) {
 			w.checkLeftOut(s, x)
 		}
 	}

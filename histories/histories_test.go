@@ -94,6 +94,7 @@ func happened(t *testing.T, seen map[string]int, all ...string) {
 
 // Whatever is sent, lost, sent twice, or taken late: each has the newest of all that it knows.
 func TestFrames(t *testing.T) {
+	t.Parallel()
 	_, seen := lives(t, 40, habits{nodes: 5, keys: 6, long: 200}, false)
 	happened(t, seen, "whole", "in part", "withheld", "retired")
 	_, seen = lives(t, 30, habits{nodes: 4, keys: 2, long: 200, expels: 1}, false)
@@ -105,6 +106,7 @@ func TestFrames(t *testing.T) {
 
 // Likewise where they let go what nobody needs, also where one is expelled that doesn't know of it.
 func TestSteps(t *testing.T) {
+	t.Parallel()
 	_, seen := lives(t, 80, habits{nodes: 4, keys: 3, long: 250, steps: 15}, false)
 	happened(t, seen, "whole", "in part", "old", "stale, and knew by then", "retired", "tombs", "texts", "ids")
 	_, seen = lives(t, 60, habits{nodes: 4, keys: 3, long: 250, steps: 20, expels: 3}, false)
@@ -112,12 +114,14 @@ func TestSteps(t *testing.T) {
 }
 
 func TestMemory(t *testing.T) {
+	t.Parallel()
 	_, seen := lives(t, 40, habits{nodes: 4, keys: 3, long: 250, steps: 20, expels: 3}, true)
 	happened(t, seen, "whole", "in part", "old", "stale", "retired", "tombs", "texts", "ids")
 }
 
 // When nothing more is done, but that all ask one another, and let go what nobody needs, all come to the same.
 func TestRest(t *testing.T) {
+	t.Parallel()
 	for _, h := range []habits{
 		{nodes: 1, keys: 2, long: 30, steps: 10}, {nodes: 2, keys: 3, long: 100, steps: 10}, {nodes: 4, keys: 4, long: 200, steps: 10},
 		{nodes: 7, keys: 8, long: 250}, {nodes: 12, keys: 32, long: 400, steps: 5},

@@ -11,21 +11,17 @@ import (
 	"cenotaph/api"
 	"cenotaph/bag"
 	"cenotaph/frame"
+	"cenotaph/gc"
 	"cenotaph/id"
 	"cenotaph/mesh"
-	"cenotaph/node"
 	"cenotaph/sample"
 	"cenotaph/zone"
 )
 
-// group is a Mesh, and beside it, in the same places, the events that each replica should know, and that the sender of
-// what is under way knew when it sent it.
+// group is a Mesh, and beside it a world of the same replicas and frames, that tells what each should know.
 type group struct {
-	t          *testing.T
-	m          mesh.Mesh
-	known, way []events
-	watched    bool
-	seen       map[string]int // what happened, how often
+	*world
+	m mesh.Mesh
 }
 
 func newGroup(t *testing.T, most int, watched bool, seen map[string]int) *group {
@@ -33,29 +29,28 @@ func newGroup(t *testing.T, most int, watched bool, seen map[string]int) *group 
 	if e != api.OK {
 		t.Fatal(e)
 	}
-	return &group{t: t, m: m, known: []events{{}}, watched: watched, seen: seen}
+	g := &group{world: newWorld(t), m: m}
+	g.watched, g.seen = watched, seen
+	return g
 }
 
 // do: o is done. What came of it is held against what should come of it, and all that it doesn't change stays.
-func (g *group) do(o mesh.Op) {
+func (g *group) do(o mesh.Op) api.Errno {
 	g.t.Helper()
-	was, f, wrong := g.m, frame.Frame{}, api.OK
-	if o.Kind == mesh.Deliver {
-		f, wrong = bag.Look(was.Bag, o.At)
-	}
+	was := g.m
 	e := g.call(o)
 	g.seen["kind "+strconv.Itoa(o.Kind)+", "+strconv.Itoa(int(e))]++
 	switch {
-	case o.Kind == mesh.Deliver && wrong == api.OK:
-		g.delivered(f, o.At, e)
-		g.stays(was, f.To)
+	case o.Kind == mesh.Deliver && o.At >= 0 && o.At < len(was.Bag):
+		g.delivered(was, o.At, e)
 	case e != api.OK:
 		g.stays(was)
 	default:
-		g.done(o, g.place(o.Who), g.place(o.Other))
+		g.done(was, o, g.place(o.Who), g.place(o.Other))
 		g.stays(was, changes(o)...)
 	}
-	g.check()
+	g.checkMesh(was)
+	return e
 }
 
 // call is what mesh.Do answers; where memory is looked at it is handed a Mesh with spare room.
@@ -69,7 +64,7 @@ func (g *group) call(o mesh.Op) api.Errno {
 	got, e := mesh.Do(m, o)
 	s, _ := mesh.Find(m, o.Who)
 	done(got, s, mesh.Live(m))
-	g.m = got
+	g.m, g.all = got, got.Nodes
 	return e
 }
 
@@ -84,64 +79,65 @@ func changes(o mesh.Op) []id.Id {
 	return []id.Id{o.Who}
 }
 
-func (g *group) place(a id.Id) int {
-	return slices.IndexFunc(g.m.Nodes, func(s node.State) bool { return s.Id == a })
-}
-
-// done: that was done, and nothing was wrong.
-func (g *group) done(o mesh.Op, who, other int) {
+// done: that was done, to a Mesh that was was, and nothing was wrong.
+func (g *group) done(was mesh.Mesh, o mesh.Op, who, other int) {
+	g.t.Helper()
 	switch o.Kind {
 	case mesh.Write, mesh.Delete:
-		g.known[who][event{o.Who, 1 + g.made(who)}] = true
+		g.made(who)
 	case mesh.Create:
 		g.known = append(g.known, maps.Clone(g.known[who]))
 	case mesh.Send:
-		g.way = append(g.way, maps.Clone(g.known[who]))
+		g.sent(who)
 	case mesh.Drop:
-		g.way = slices.Delete(g.way, o.At, o.At+1)
+		g.lose(o.At)
 	case mesh.Double:
-		g.way = append(g.way, maps.Clone(g.way[o.At]))
+		g.send(g.way[o.At].f, g.way[o.At].known)
 	case mesh.Retire:
+		g.seen["retired"]++
 		maps.Copy(g.known[other], g.known[who])
+	case mesh.Expel:
+		g.expels = true
+	case mesh.Gc:
+		_, r := gc.Step(was.Nodes[who])
+		g.stepped(was.Nodes[who], g.all[who], r)
 	}
 }
 
-// made is how many events that replica made.
-func (g *group) made(who int) int {
-	n := 0
-	for e := range g.known[who] {
-		if e.id == g.m.Nodes[who].Id {
-			n++
-		}
+// sent: replica i sent what stands behind all that is under way.
+func (g *group) sent(i int) frame.Frame {
+	g.t.Helper()
+	f, e := bag.Look(g.m.Bag, len(g.m.Bag)-1)
+	if e != api.OK || f.Kind != frame.Stale && !maps.Equal(eventsOf(f.Know), g.known[i]) {
+		g.t.Fatalf("%d: %v, of one that knew %v", e, f, g.known[i])
 	}
-	return n
+	g.send(f, g.known[i])
+	return f
 }
 
-// delivered: that frame was taken out of that place, and came where it was sent.
-func (g *group) delivered(f frame.Frame, at int, e api.Errno) {
-	knew, to := g.way[at], g.place(f.To)
-	g.way = slices.Delete(g.way, at, at+1)
+// delivered: the frame in that place was taken out, and came where it was sent.
+func (g *group) delivered(was mesh.Mesh, at int, e api.Errno) {
+	g.t.Helper()
+	l := g.way[at]
+	g.lose(at)
+	i := g.place(l.f.To)
 	switch {
+	case l.f.Kind != frame.Ask:
+		g.came(i, was.Nodes[i], l, e)
 	case e != api.OK:
-	case f.Kind == frame.Ask:
-		g.way = append(g.way, maps.Clone(g.known[to]))
-	case f.Whole:
-		g.seen["whole"]++
-		maps.Copy(g.known[to], knew)
+		g.answered(i, was.Nodes[i], l, frame.Frame{}, e, was.Most)
 	default:
-		g.seen["in part"]++
-		for _, x := range f.Items {
-			g.known[to][eventOf(x)] = true
-		}
+		g.answered(i, was.Nodes[i], l, g.sent(i), e, was.Most)
 	}
+	g.stays(was, l.f.To)
 }
 
 // stays: all replicas but those are as they were in m, each in its place; and so much is under way as should be.
 func (g *group) stays(m mesh.Mesh, changed ...id.Id) {
 	g.t.Helper()
 	for i, s := range m.Nodes {
-		if !slices.Contains(changed, s.Id) && !sample.Same(s, g.m.Nodes[i]) {
-			g.t.Fatalf("%v, and not %v", g.m.Nodes[i], s)
+		if !slices.Contains(changed, s.Id) && !sample.Same(s, g.all[i]) {
+			g.t.Fatalf("%v, and not %v", g.all[i], s)
 		}
 	}
 	if len(g.way) != len(g.m.Bag) || g.m.Most != m.Most {
@@ -149,28 +145,28 @@ func (g *group) stays(m mesh.Mesh, changed ...id.Id) {
 	}
 }
 
-// check: what each replica knows is just the events that it should know; what is under way is what its sender knew; and
-// all Ids differ.
-func (g *group) check() {
+// checkMesh: what each replica knows and has is as it should be; what is under way is what was sent; all Ids differ; and whose
+// Row is in no Know any more that had it, ahead of what was done, was left out by right.
+func (g *group) checkMesh(was mesh.Mesh) {
 	g.t.Helper()
-	if len(g.m.Nodes) != len(g.known) || len(g.known) > api.MaxNodes || len(g.way) > api.MaxBag {
-		g.t.Fatalf("there are %d replicas, not %d", len(g.m.Nodes), len(g.known))
+	if len(g.all) != len(g.known) || len(g.known) > api.MaxNodes || len(g.way) > api.MaxBag {
+		g.t.Fatalf("there are %d replicas, not %d", len(g.all), len(g.known))
 	}
-	var names []id.Id
-	for i, s := range g.m.Nodes {
-		if all := node.All(s); !maps.Equal(eventsOf(all), g.known[i]) {
-			g.t.Fatalf("%q knows %v, not %v", s.Id, all, g.known[i])
-		}
-		if slices.Contains(names, s.Id) || !id.Right(s.Id) {
+	g.check()
+	names := map[id.Id]bool{}
+	for _, s := range g.all {
+		if names[s.Id] || !id.Right(s.Id) {
 			g.t.Fatalf("%q comes behind %v", s.Id, names)
 		}
-		names = append(names, s.Id)
+		names[s.Id] = true
 	}
 	for i, l := range g.m.Bag {
-		f, e := frame.Take(l)
-		if e != api.OK || !bytes.Equal(frame.Put(f), l) || f.Kind != frame.Stale && !maps.Equal(eventsOf(f.Know), g.way[i]) {
-			g.t.Fatalf("under way is %v, of one that knew %v", f, g.way[i])
+		if !bytes.Equal(frame.Put(g.way[i].f), l) {
+			g.t.Fatalf("under way is %v, and not %v", l, g.way[i].f)
 		}
+	}
+	for i, s := range was.Nodes {
+		g.checkRowsLeftOut(s, g.all[i])
 	}
 }
 
@@ -227,6 +223,7 @@ func meshes(t *testing.T, seeds int, h ways, watched bool) map[string]int {
 
 // Whatever is done: all Ids differ, and each knows just what it should.
 func TestMeshes(t *testing.T) {
+	t.Parallel()
 	seen := meshes(t, 60, ways{nodes: 4, keys: 3, long: 300, steps: 15, comes: 30}, false)
 	happened(t, seen, "whole", "in part", "kind 5, 5", "kind 5, 17", "kind 8, 0", "kind 10, 0", "kind 11, 1")
 	seen = meshes(t, 60, ways{nodes: 5, keys: 3, long: 300, expels: 2, steps: 15, comes: 30}, false)
@@ -235,11 +232,13 @@ func TestMeshes(t *testing.T) {
 
 // Likewise where more is sent than comes, so that there is no room any more.
 func TestFullMeshes(t *testing.T) {
+	t.Parallel()
 	seen := meshes(t, 6, ways{nodes: 13, keys: 32, long: 500, comes: 10}, false)
 	happened(t, seen, "in part", "kind 3, 18", "kind 4, 18", "kind 5, 0", "kind 7, 18")
 }
 
 func TestMemoryOfMeshes(t *testing.T) {
+	t.Parallel()
 	seen := meshes(t, 8, ways{nodes: 4, keys: 3, long: 200, expels: 1, steps: 15, comes: 30}, true)
 	happened(t, seen, "whole", "in part", "kind 4, 4", "kind 5, 5", "kind 6, 11", "kind 8, 0", "kind 9, 0", "kind 10, 0", "kind 11, 1")
 }

@@ -94,12 +94,12 @@ func (w *world) place(a id.Id) int {
 // floorOf is the events that replica i's Floor says.
 func (w *world) floorOf(i int) events { return eventsOf(know.From(w.all[i].Floor)) }
 
-// made: replica i made an event, that should be newer than all that it knew.
+// made: replica i, that is Live, made an event, that should be newer than all that it knew.
 func (w *world) made(i int) {
 	s := w.all[i]
 	e := event{s.Id, s.Seq}
 	at := slices.IndexFunc(s.Store, func(x item.Item) bool { return eventOf(x) == e })
-	if w.known[i][e] || at < 0 {
+	if w.known[i][e] || at < 0 || s.How != node.Live {
 		w.t.Fatalf("%q made %v: %v", s.Id, e, s.Store)
 	}
 	x := s.Store[at]
@@ -194,18 +194,28 @@ func (w *world) answer(i int, l letter, most int) {
 	got, d, e := swap.Answer(s, f, most)
 	done(got, d)
 	w.all[i] = got
+	w.answered(i, s, l, d, e, most)
+	if e == api.OK {
+		w.send(d, w.known[i])
+	}
+}
+
+// answered: replica i, that was s, was asked, and sends d back. Who knows less than its Floor says is told so, and nothing
+// else happens.
+func (w *world) answered(i int, s node.State, l letter, d frame.Frame, e api.Errno, most int) {
+	w.t.Helper()
 	if s.How != node.Live {
 		w.expect(e, api.ErrState)
 		return
 	}
 	w.expect(e, api.OK)
-	if knowsTooLittle := !w.floorOf(i).within(l.known); knowsTooLittle != (d.Kind == frame.Stale) {
+	knowsTooLittle := !w.floorOf(i).within(l.known)
+	if knowsTooLittle != (d.Kind == frame.Stale) || knowsTooLittle && !sample.Same(w.all[i], s) {
 		w.t.Fatalf("%q, whose Floor is %v, sends %v to one that knew %v", s.Id, s.Floor, d, l.known)
 	}
 	if d.Kind == frame.Data && !d.Whole && len(d.Items) < most {
 		w.seen["withheld"]++
 	}
-	w.send(d, w.known[i])
 }
 
 func (w *world) take(i int, l letter) {
@@ -213,13 +223,20 @@ func (w *world) take(i int, l letter) {
 	got, e := swap.Take(s, f)
 	done(got)
 	w.all[i] = got
-	switch told := eventsOf(know.From(f.Floor)); {
+	w.came(i, s, l, e)
+}
+
+// came: what replica i, that was s, had asked for came.
+func (w *world) came(i int, s node.State, l letter, e api.Errno) {
+	w.t.Helper()
+	got := w.all[i]
+	switch told := eventsOf(know.From(l.f.Floor)); {
 	case s.How != node.Live:
 		w.expect(e, api.ErrState)
-	case f.Kind == frame.Stale && told.within(w.known[i]):
+	case l.f.Kind == frame.Stale && told.within(w.known[i]):
 		w.seen["stale, and knew by then"]++
 		w.expect(e, api.ErrOld)
-	case f.Kind == frame.Stale:
+	case l.f.Kind == frame.Stale:
 		w.seen["stale"]++
 		w.expect(e, api.ErrStale)
 		w.isExpelled(s, got)
@@ -288,6 +305,13 @@ func (w *world) step(i int) {
 	s, _, done := w.watch(w.all[i], frame.Frame{})
 	got, r := gc.Step(s)
 	done(got, r, gc.Stable(s))
+	w.stepped(s, got, r)
+	w.all[i] = got
+}
+
+// stepped: a replica that was s let that go.
+func (w *world) stepped(s, got node.State, r gc.Report) {
+	w.t.Helper()
 	w.checkStep(s, got, r)
 	for _, key := range r.Tombs {
 		x, _ := store.Get(s.Store, key)
@@ -296,7 +320,6 @@ func (w *world) step(i int) {
 	w.seen["tombs"] += len(r.Tombs)
 	w.seen["texts"] += len(r.Texts)
 	w.seen["ids"] += len(r.Ids)
-	w.all[i] = got
 }
 
 // round: all that are Live ask one another, and let go what nobody needs any more.

@@ -1,7 +1,6 @@
 package mesh_test
 
 import (
-	"bytes"
 	"math"
 	"slices"
 	"testing"
@@ -85,18 +84,10 @@ func refusing(t *testing.T) mesh.Mesh {
 	return after(t, m, send("02", "0"), deliver(0))
 }
 
-func sameBag(a, b bag.Bag) bool {
-	return slices.EqualFunc(a, b, func(x, y []byte) bool { return bytes.Equal(x, y) })
-}
-
-func sameMesh(a, b mesh.Mesh) bool {
-	return slices.EqualFunc(a.Nodes, b.Nodes, sample.Same) && sameBag(a.Bag, b.Bag) && a.Most == b.Most
-}
-
 // expect: what comes of o is want, and that error.
 func expect(t *testing.T, m mesh.Mesh, o mesh.Op, want mesh.Mesh, e api.Errno) {
 	t.Helper()
-	if got, f := mesh.Do(m, o); f != e || !sameMesh(got, want) {
+	if got, f := mesh.Do(m, o); f != e || !sample.SameMesh(got, want) {
 		t.Errorf("%v: %d, not %d;\n%v\n%v", o, f, e, got, want)
 	}
 }
@@ -173,12 +164,12 @@ func TestNew(t *testing.T) {
 		} else if e != api.OK {
 			t.Errorf("New of %d: %d", most, e)
 		}
-		if !sameMesh(m, want) {
+		if !sample.SameMesh(m, want) {
 			t.Errorf("New of %d: %v", most, m)
 		}
 	}
 	for _, most := range []int{math.MinInt, math.MaxInt, 1 << 32, 1<<32 + 1} {
-		if m, e := mesh.New(most); e != api.ErrArg || !sameMesh(m, mesh.Mesh{}) {
+		if m, e := mesh.New(most); e != api.ErrArg || !sample.SameMesh(m, mesh.Mesh{}) {
 			t.Errorf("New of %d: %d, %v", most, e, m)
 		}
 	}
@@ -396,29 +387,8 @@ func TestWhatAKindDoesntHave(t *testing.T) {
 		if e != api.OK {
 			t.Fatal(o, e)
 		}
-		full := mesh.Op{Kind: o.Kind, Who: "no id", Other: "no id", Key: -7, At: -7, Spot: complex(math.Inf(1), math.NaN()),
-			Text: "a text that is too long", Zone: sample.Zone("all")[:0:0]}
-		fill(&full, o)
-		expect(t, m, full, want, api.OK)
+		expect(t, m, sample.Overfull(o), want, api.OK)
 	}
-}
-
-// fill is what o's Kind has.
-func fill(full *mesh.Op, o mesh.Op) {
-	switch o.Kind {
-	case mesh.Deliver, mesh.Drop, mesh.Double:
-		full.At = o.At
-		return
-	case mesh.Write:
-		full.Key, full.Spot, full.Text = o.Key, o.Spot, o.Text
-	case mesh.Delete:
-		full.Key = o.Key
-	case mesh.SetZone:
-		full.Zone = o.Zone
-	case mesh.Send, mesh.Retire, mesh.Expel:
-		full.Other = o.Other
-	}
-	full.Who = o.Who
 }
 
 // An Op of another Kind isn't done, and that is told ahead of who it speaks of.

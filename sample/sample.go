@@ -1,13 +1,17 @@
-// Package sample has what tests are written with: items, Rows and States in few words. The program itself doesn't call it.
+// Package sample has what tests are written with: items, Rows, States and Ops in few words. The program itself doesn't call it.
 package sample
 
 import (
+	"bytes"
+	"math"
 	"slices"
+	"strings"
 
 	"cenotaph/id"
 	"cenotaph/item"
 	"cenotaph/know"
 	"cenotaph/matrix"
+	"cenotaph/mesh"
 	"cenotaph/node"
 	"cenotaph/span"
 	"cenotaph/store"
@@ -61,6 +65,34 @@ func Same(a, b node.State) bool {
 		return false
 	}
 	return slices.Equal(a.Members, b.Members) && vec.Same(a.Certs, b.Certs) && matrix.Same(a.Rows, b.Rows)
+}
+
+// SameMesh: is all in both Meshes the same?
+func SameMesh(a, b mesh.Mesh) bool {
+	return slices.EqualFunc(a.Nodes, b.Nodes, Same) && slices.EqualFunc(a.Bag, b.Bag, bytes.Equal) && a.Most == b.Most
+}
+
+// Overfull is o with what can't be in all that its Kind doesn't have.
+func Overfull(o mesh.Op) mesh.Op {
+	full := mesh.Op{
+		Kind: o.Kind, Who: "no id", Other: "no id", Key: -7, At: -7, Spot: complex(math.Inf(1), math.NaN()),
+		Text: strings.Repeat("a", 101), Zone: zone.Zone{{Op: 99}},
+	}
+	switch o.Kind {
+	case mesh.Deliver, mesh.Drop, mesh.Double:
+		full.At = o.At
+		return full
+	case mesh.Write:
+		full.Key, full.Spot, full.Text = o.Key, o.Spot, o.Text
+	case mesh.Delete:
+		full.Key = o.Key
+	case mesh.SetZone:
+		full.Zone = o.Zone
+	case mesh.Send, mesh.Retire, mesh.Expel:
+		full.Other = o.Other
+	}
+	full.Who = o.Who
+	return full
 }
 
 // WrongStates is s with one thing at a time that can't be; and some that can't be at all.

@@ -115,6 +115,9 @@ func (g *group) asks(a, b id.Id) bool {
 	return e != api.OK || d.Whole || d.Kind == frame.Stale
 }
 
+// lives: is it Live?
+func (g *group) lives(a id.Id) bool { return g.all[g.place(a)].How == node.Live }
+
 // turn: all that are Live ask one another, and let go what nobody needs any more.
 func (g *group) turn() {
 	g.t.Helper()
@@ -122,7 +125,7 @@ func (g *group) turn() {
 	for _, a := range names {
 		for _, b := range names {
 			for range 4 {
-				if a == b || g.asks(a, b) {
+				if a == b || !g.lives(a) || !g.lives(b) || g.asks(a, b) {
 					break
 				}
 			}
